@@ -1,0 +1,1 @@
+"""Evenbeat: strokes laid as evenly as can be round a wheel."""
