@@ -13,6 +13,12 @@ def check_wheel(strokes, places):
         raise NoWheel("a wheel has from 0 strokes to as many as it has places")
 
 
+def check_wheel_of_row(strokes, places):
+    check_wheel(strokes, places)
+    if places > MOST_PLACES_OF_A_ROW:
+        raise NoWheel("a row has no more than 120 places")
+
+
 def ahead(strokes, places, at):
     check_wheel(strokes, places)
     return strokes * at // places
@@ -31,8 +37,11 @@ def place_of(strokes, places, number):
     return (places * (number + 1) - 1) // strokes
 
 
-def laid(strokes, places):
-    check_wheel(strokes, places)
-    if places > MOST_PLACES_OF_A_ROW:
-        raise NoWheel("a row has no more than 120 places")
+# Kept apart from laid, since a wheel that is only looked at is not bound to 120 places.
+def whole_round(strokes, places):
     return [1 if has_stroke(strokes, places, at) else 0 for at in range(places)]
+
+
+def laid(strokes, places):
+    check_wheel_of_row(strokes, places)
+    return whole_round(strokes, places)
